@@ -88,6 +88,33 @@ func ParseAddr(s string) (Addr, bool) {
 	return a, true
 }
 
+// width is how many bits an address of its kind has.
+func (a Addr) width() int {
+	if a.Six {
+		return groupsOf128 * bitsOf128
+	}
+	return groupsOf32 * bitsOf32
+}
+
+// cleared is the address whose last count bits are 0.
+func (a Addr) cleared(count int) Addr {
+	hi, lo := lastBits(count)
+	return Addr{Six: a.Six, Hi: a.Hi &^ hi, Lo: a.Lo &^ lo}
+}
+
+// filled is the address whose last count bits are 1.
+func (a Addr) filled(count int) Addr {
+	hi, lo := lastBits(count)
+	return Addr{Six: a.Six, Hi: a.Hi | hi, Lo: a.Lo | lo}
+}
+
+// lastBits has 1 in the last count of 128 bits, and leans on a shift by 64 leaving nothing of a word.
+func lastBits(count int) (int, int) {
+	hi := uint64(1)<<max(count-64, 0) - 1
+	lo := uint64(1)<<count - 1
+	return int(hi), int(lo)
+}
+
 func addrOrZero(a Addr) Addr {
 	if AddrOk(a) {
 		return a
