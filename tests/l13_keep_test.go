@@ -102,7 +102,7 @@ func entryRight(e impl.Entry) bool {
 	return false
 }
 
-// keepRight asks each entry beside all that stand ahead of it. The entry Base has a term as every entry has: 0 of 0 alone.
+// keepRight asks each entry beside all that stand ahead of it. The entry Base has a term as every entry has: 0 of 0 alone. No entry has an index behind the last one.
 func keepRight(k impl.Keep) bool {
 	if !isWithin(k.Term, 0, lastTerm) || !isWithin(k.Vote, 0, mostNodes) || !isWithin(k.Base, 0, lastBase) {
 		return false
@@ -113,7 +113,7 @@ func keepRight(k impl.Keep) bool {
 	if k.Base != 0 && !isWithin(k.BaseTerm, 1, k.Term) {
 		return false
 	}
-	if !groupRight(k.Group) || len(k.Snap) > mostData || len(k.Log) > mostLog {
+	if !groupRight(k.Group) || len(k.Snap) > mostData || len(k.Log) > mostLog || lastOf(k) > lastBase {
 		return false
 	}
 	for i, e := range k.Log {
@@ -657,7 +657,8 @@ func rightKeeps() map[string]impl.Keep {
 		"an old snapshot":       kept(8, 4, 12, 1, "snap"),
 		"a joint snapshot":      withGroup(kept(8, 4, 12, 5, "snap"), groupOf([]int{1, 2, 3}, 3, 4)),
 		"last snapshot":         kept(lastTerm, 7, lastBase, lastTerm, "snap"),
-		"behind the last index": kept(lastTerm, 7, lastBase, 5, "snap", risingLog(5, lastTerm, mostLog)...),
+		"one, the last index":   kept(4, 1, lastBase-1, 2, "snap", noop(3)),
+		"up to the last index":  kept(lastTerm, 7, lastBase-mostLog, 5, "snap", risingLog(5, lastTerm, mostLog)...),
 		"a long snapshot":       kept(2, 0, 3, 2, longText(mostData)),
 		"a snapshot and one":    kept(4, 1, 3, 2, "snap", noop(2)),
 		"a snapshot and more":   kept(4, 1, 3, 2, "snap", noop(2), asked(3, "five"), asked(3, "six")),
@@ -698,6 +699,11 @@ func wrongKeeps() map[string]impl.Keep {
 		"Snap far longer":       kept(1, 0, 1, 1, longText(100000)),
 		"Log one longer":        kept(1, 0, 0, 0, "", noops(1, mostLog+1)...),
 		"Log far longer":        kept(1, 0, 0, 0, "", noops(1, 1000)...),
+		"one behind the last":   kept(1, 0, lastBase, 1, "s", noop(1)),
+		"two behind the last":   kept(9, 0, lastBase, 1, "s", asked(2, "x"), noop(9)),
+		"second behind it":      kept(9, 0, lastBase-1, 1, "s", noop(2), noop(2)),
+		"last of many behind":   kept(9, 0, lastBase-mostLog+1, 1, "s", risingLog(2, 9, mostLog)...),
+		"many behind the last":  kept(lastTerm, 7, lastBase, 5, "snap", risingLog(5, lastTerm, mostLog)...),
 		"Log one longer, based": kept(9, 0, 5, 2, "s", risingLog(2, 9, mostLog+1)...),
 		"entry of term 0":       kept(1, 0, 0, 0, "", noop(0)),
 		"entry of term -1":      kept(1, 0, 0, 0, "", noop(-1)),
@@ -900,8 +906,13 @@ func TestKeepOkTable(t *testing.T) {
 		{1, 0, 0, 0, 0, 121, false},
 		{0, 0, 0, 0, 0, 1, false},
 		{1, 0, 1, 1, 20000, 120, true},
-		{1, 0, 1000000, 1, 0, 120, true},
-		{1, 0, 1000000, 1, 0, 121, false},
+		{1, 0, 999880, 1, 0, 120, true},
+		{1, 0, 999881, 1, 0, 120, false},
+		{1, 0, 999879, 1, 0, 121, false},
+		{1, 0, 999999, 1, 0, 1, true},
+		{1, 0, 999999, 1, 0, 2, false},
+		{1, 0, 1000000, 1, 0, 1, false},
+		{1, 0, 1000000, 1, 0, 120, false},
 		{2, 0, 1, 2, 0, 1, false},
 	} {
 		k := kept(c.term, c.vote, c.base, c.baseTerm, longText(c.snap), noops(1, c.log)...)
@@ -1028,7 +1039,10 @@ func TestLastEntryTable(t *testing.T) {
 		{kept(9, 3, 5, 2, "s", noop(3)), 6, 3},
 		{kept(9, 3, 5, 2, "s", noop(3), noop(3), noop(7)), 8, 7},
 		{kept(9, 3, 1000000, 9, "s"), 1000000, 9},
-		{kept(9, 3, 1000000, 2, "s", noops(8, 120)...), 1000120, 8},
+		{kept(9, 3, 999880, 2, "s", noops(8, 120)...), 1000000, 8},
+		{kept(9, 3, 999999, 2, "s", noop(8)), 1000000, 8},
+		{kept(9, 3, 999881, 2, "s", noops(8, 120)...), 0, 0},
+		{kept(9, 3, 1000000, 2, "s", noop(8)), 0, 0},
 		{kept(9, 8, 5, 2, "s", noop(3)), 0, 0},
 		{kept(2, 3, 5, 2, "s", noop(3)), 0, 0},
 		{kept(9, 3, 5, 0, "s"), 0, 0},
@@ -1069,10 +1083,14 @@ func TestTermAtTable(t *testing.T) {
 		{kept(9, 3, 5, 2, "s"), 4, 0, false},
 		{kept(9, 3, 5, 2, "s"), 5, 2, true},
 		{kept(9, 3, 5, 2, "s"), 6, 0, false},
-		{kept(9, 3, 1000000, 2, "s", noops(8, 120)...), 1000000, 2, true},
-		{kept(9, 3, 1000000, 2, "s", noops(8, 120)...), 1000001, 8, true},
-		{kept(9, 3, 1000000, 2, "s", noops(8, 120)...), 1000120, 8, true},
-		{kept(9, 3, 1000000, 2, "s", noops(8, 120)...), 1000121, 0, false},
+		{kept(9, 3, 1000000, 2, "s"), 1000000, 2, true},
+		{kept(9, 3, 1000000, 2, "s"), 1000001, 0, false},
+		{kept(9, 3, 999880, 2, "s", noops(8, 120)...), 999880, 2, true},
+		{kept(9, 3, 999880, 2, "s", noops(8, 120)...), 999881, 8, true},
+		{kept(9, 3, 999880, 2, "s", noops(8, 120)...), 1000000, 8, true},
+		{kept(9, 3, 999880, 2, "s", noops(8, 120)...), 1000001, 0, false},
+		{kept(9, 3, 1000000, 2, "s", noop(8)), 1000000, 0, false},
+		{kept(9, 3, 1000000, 2, "s", noop(8)), 1000001, 0, false},
 		{plain, math.MinInt, 0, false},
 		{plain, math.MaxInt, 0, false},
 		{based, math.MinInt, 0, false},
@@ -1114,6 +1132,8 @@ func TestGroupOfTable(t *testing.T) {
 		{kept(3, 0, 0, 0, "", regroup(1, 7, 12), regroup(1, 0, 7)), zero},
 		{withGroup(kept(3, 0, 0, 0, "", regroup(1, 7, 12)), zero), zero},
 		{withGroup(kept(3, 0, 0, 0, ""), groupOf([]int{2, 1})), zero},
+		{kept(3, 0, lastBase-1, 1, "s", regroup(1, 7, 12)), joint},
+		{kept(3, 0, lastBase, 1, "s", regroup(1, 7, 12)), zero},
 		{impl.Keep{}, zero},
 	} {
 		if got := checkGroupOf(t, c.k); !sameGroup(got, c.want) {
@@ -1376,7 +1396,7 @@ func TestRedoOfTheLongestSnapshot(t *testing.T) {
 
 // The log has all that it may have: one more is refused, one in the place of the last is not.
 func TestRedoOfAFullLog(t *testing.T) {
-	for _, base := range []int{0, 1, 77, lastBase} {
+	for _, base := range []int{0, 1, 77, lastBase - mostLog} {
 		k := kept(9, 1, base, min(base, 1), "", noops(9, mostLog)...)
 		for index, done := range map[int]bool{base: false, base + 1: true, base + 2: true, base + mostLog - 1: true, base + mostLog: true, base + mostLog + 1: false, base + mostLog + 2: false} {
 			b := frameOf(entryInner(index, asked(9, "more")))
@@ -1668,7 +1688,8 @@ func TestRecordsTable(t *testing.T) {
 		{"up to the last, and more", snap(6, 3, noop(4)), [][]byte{snapInner(6, 3, group, []byte("new")), entryInner(7, noop(4))}},
 		{"one behind the last", snap(7, 3), [][]byte{snapInner(7, 3, group, []byte("new"))}},
 		{"one behind the last, and more", snap(7, 3, noop(3), asked(4, "x")), [][]byte{snapInner(7, 3, group, []byte("new")), entryInner(8, noop(3)), entryInner(9, asked(4, "x"))}},
-		{"far behind", snap(lastBase, 4, noop(4)), [][]byte{snapInner(lastBase, 4, group, []byte("new")), entryInner(lastBase+1, noop(4))}},
+		{"far behind", snap(lastBase-1, 4, noop(4)), [][]byte{snapInner(lastBase-1, 4, group, []byte("new")), entryInner(lastBase, noop(4))}},
+		{"as far as may be", snap(lastBase, 4), [][]byte{snapInner(lastBase, 4, group, []byte("new"))}},
 		{"all of it", kept(300, 7, 5, 3, "", asked(3, "sex"), noop(300)), [][]byte{voteInner(300, 7), snapInner(5, 3, []byte{7, 0}, nil), entryInner(6, asked(3, "sex")), entryInner(7, noop(300))}},
 		{"a snapshot of a later term", kept(9, 0, 8, 9, "s"), [][]byte{voteInner(9, 0), snapInner(8, 9, []byte{7, 0}, []byte("s"))}},
 		{"all, and one gone", kept(5, 1, 4, 2, "s", five), [][]byte{voteInner(5, 1), snapInner(4, 2, []byte{7, 0}, []byte("s")), cutInner(6)}},
@@ -1765,7 +1786,7 @@ func TestRecordsOfEveryPair(t *testing.T) {
 // A snapshot may have more bytes than go into a frame: there is no record of it then, so there are none at all.
 func TestRecordsOfTheLongestSnapshots(t *testing.T) {
 	a := someKept()
-	for _, base := range []int{5, 127, 128, 16384, lastBase} {
+	for _, base := range []int{5, 127, 128, 16384, lastBase - 1} {
 		for length := mostData - 20; length <= mostData; length++ {
 			b := kept(9, 3, base, 3, longText(length), noop(9))
 			got := checkRecords(t, a, b)
@@ -1843,19 +1864,91 @@ func TestRecordsOfTheGreatestKeep(t *testing.T) {
 	for i := range mostLog {
 		log = append(log, asked(lastTerm-mostLog+i, longText(mostCommand-1)+string(rune('a'+i%26))))
 	}
-	b := kept(lastTerm, 7, lastBase, lastTerm-mostLog, longText(19000), log...)
-	for _, a := range []impl.Keep{kept(0, 0, 0, 0, ""), someKept(), kept(1, 1, 0, 0, "", noops(1, mostLog)...), kept(lastTerm-1, 1, lastBase-1, 1, "", append([]impl.Entry{noop(lastTerm - mostLog)}, log[:mostLog-2]...)...)} {
+	base := lastBase - mostLog
+	b := kept(lastTerm, 7, base, lastTerm-mostLog, longText(19000), log...)
+	for _, a := range []impl.Keep{kept(0, 0, 0, 0, ""), someKept(), kept(1, 1, 0, 0, "", noops(1, mostLog)...), kept(lastTerm-1, 1, base-1, 1, "", append([]impl.Entry{noop(lastTerm - mostLog)}, log[:mostLog-2]...)...)} {
 		if r := checkGoesOn(t, a, b); len(r) < 19000 {
 			t.Errorf("from %s: %d bytes", keepText(a), len(r))
 		}
 	}
 	c := cloneKeep(b)
 	c.Log = nil
-	if r := checkGoesOn(t, b, c); !bytes.Equal(r, frameOf(cutInner(lastBase+1))) {
+	if r := checkGoesOn(t, b, c); !bytes.Equal(r, frameOf(cutInner(base+1))) {
 		t.Errorf("%x", r)
 	}
 	if r := checkGoesOn(t, c, b); len(frameEnds(r)) != mostLog+1 {
 		t.Error(len(r))
+	}
+}
+
+// With each count of entries the last index goes from two ahead of the last one to two behind it: that one is taken, one more is not.
+func TestKeepsAtTheLastIndex(t *testing.T) {
+	for count := range mostLog + 1 {
+		for last := lastBase - 2; last <= lastBase+2; last++ {
+			k := kept(5, 1, last-count, 1, "snap", noops(4, count)...)
+			right := last <= lastBase
+			if got := checkKeep(t, k); got != right {
+				t.Fatalf("%d entries up to %d: %v", count, last, got)
+			}
+			index, _ := checkLast(t, k)
+			_, there := checkTerm(t, k, last)
+			if g := checkGroupOf(t, k); there != right || (index == last) != right || impl.GroupOk(g) != right {
+				t.Fatalf("%d entries up to %d: %d, %v, %v", count, last, index, there, g)
+			}
+		}
+	}
+}
+
+// An entry's record is done up to the last index and not behind it; one in the place of another is done, and so is a cut.
+func TestRedoAtTheLastIndex(t *testing.T) {
+	for count := range 4 {
+		for last := lastBase - 2; last <= lastBase; last++ {
+			k := kept(5, 1, last-count, 1, "snap", noops(4, count)...)
+			b, place := []byte{}, 0
+			for index := last + 1; index <= lastBase+2; index++ {
+				b = append(b, frameOf(entryInner(index, asked(5, "more")))...)
+				if index <= lastBase {
+					place = len(b)
+				}
+			}
+			if got, at := checkRedo(t, k, b); at != place || lastOf(got) != lastBase || !impl.KeepOk(got) {
+				t.Errorf("%d entries up to %d: %s, %d", count, last, keepText(got), at)
+			}
+			for _, inner := range [][]byte{entryInner(last, noop(5)), cutInner(last)} {
+				if got, at := checkRedo(t, k, frameOf(inner)); (at > 0) != (count > 0) || !impl.KeepOk(got) {
+					t.Errorf("%d entries up to %d: %s, %d", count, last, keepText(got), at)
+				}
+			}
+		}
+	}
+	// A snapshot goes up to the last index, behind which nothing goes any more; entries stay behind one that is not so far.
+	k := kept(5, 1, lastBase-3, 1, "snap", noop(2), noop(3), noop(4))
+	for base := lastBase - 2; base <= lastBase; base++ {
+		b := framesOf(snapInner(base, base-lastBase+4, []byte{7, 0}, []byte("new")), entryInner(lastBase+1, noop(5)))
+		if got, at := checkRedo(t, k, b); at != frameEnds(b)[1] || got.Base != base || lastOf(got) != lastBase {
+			t.Errorf("up to %d: %s, %d", base, keepText(got), at)
+		}
+	}
+}
+
+// What is kept goes on to the last index by its records; to what goes behind it there are none.
+func TestRecordsAtTheLastIndex(t *testing.T) {
+	for count := range 4 {
+		a := kept(5, 1, lastBase-3, 1, "snap", noops(4, 1)...)
+		b := kept(5, 1, lastBase-count, 4, "new", noops(4, count)...)
+		if count == 3 {
+			b.BaseTerm, b.Snap = 1, []byte("snap")
+		}
+		if r := checkGoesOn(t, a, b); len(r) == 0 {
+			t.Errorf("%d entries: nothing", count)
+		}
+		c := cloneKeep(b)
+		c.Log = append(c.Log, noop(5))
+		for _, r := range [][]byte{checkRecords(t, a, c), checkRecords(t, b, c), checkRecords(t, c, c), checkRecords(t, c, b)} {
+			if len(r) != 0 {
+				t.Errorf("%d entries and one: %x", count, r)
+			}
+		}
 	}
 }
 

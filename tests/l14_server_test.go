@@ -297,7 +297,7 @@ func standWanted(s impl.Server, coin int) (impl.Server, []impl.Msg, bool) {
 	return s, list, true
 }
 
-// tickWanted has a Leader that came in behind HeartTicks beat where it cannot count on.
+// tickWanted has a Leader that came in behind HeartTicks beat where it cannot count on; one of no term, which comes of no tick, has no message to send.
 func tickWanted(s impl.Server, coin int) (impl.Server, []impl.Msg) {
 	if !serverRight(s) {
 		return s, nil
@@ -307,6 +307,9 @@ func tickWanted(s impl.Server, coin int) (impl.Server, []impl.Msg) {
 	if s.Role == 2 {
 		if s.Elapsed == heartTicks || s.Elapsed == mostTicks+1 {
 			s.Elapsed = 0
+			if s.K.Term == 0 {
+				return s, nil
+			}
 			return s, allSentWanted(s)
 		}
 		return s, nil
@@ -494,10 +497,8 @@ func checkTicked(t *testing.T, s impl.Server, got impl.Server, msgs []impl.Msg) 
 	if !impl.ServerOk(got) || !serverRight(got) {
 		t.Fatalf("by a tick of %s comes %s, which is not right", serverText(s), serverText(got))
 	}
-	// A Leader of no term, and an index that no message can tell, come of no tick; they may be handed in all the same.
-	tellable := (s.Role != 2 || s.K.Term > 0) && lastOf(s.K) <= lastAt
 	for _, m := range msgs {
-		if tellable && (!impl.MsgOk(m) || !msgRight(m)) {
+		if !impl.MsgOk(m) || !msgRight(m) {
 			t.Fatalf("by a tick of %s comes %s, which is not right", serverText(s), msgText(m))
 		}
 	}
@@ -561,7 +562,7 @@ func rightServers() map[string]impl.Server {
 		"a leader's full log":  leaderOf(1, kept(50, 1, 0, 0, "", risingLog(1, 50, mostLog)...), 7, 60),
 		"a full log":           serverOf(1, kept(50, 1, 0, 0, "", risingLog(1, 50, mostLog)...)),
 		"last index":           serverOf(1, kept(lastTerm, 7, lastBase, lastTerm, "snap")),
-		"behind the last one":  serverOf(1, kept(lastTerm, 7, lastBase, 5, "snap", risingLog(5, lastTerm, mostLog)...)),
+		"up to the last one":   serverOf(1, kept(lastTerm, 7, lastBase-mostLog, 5, "snap", risingLog(5, lastTerm, mostLog)...)),
 	}
 	for id := 1; id <= mostNodes; id++ {
 		list[fmt.Sprint("first entry next of ", id)] = withServer(leaderOf(1, k, 5, 4), func(s *impl.Server) { s.Next[id] = 1 })
@@ -1250,7 +1251,6 @@ func TestTickOfOneAloneWithoutRoom(t *testing.T) {
 		"last index":                      {kept(4, 2, lastAt-3, 1, "snap", noops(2, 3)...), false},
 		"one ahead of the last":           {kept(4, 2, lastAt-3, 1, "snap", noops(2, 2)...), true},
 		"one ahead of the last, snapshot": {kept(4, 2, lastAt-1, 1, "snap"), true},
-		"behind the last index":           {kept(4, 2, lastAt, 1, "snap", noops(2, 2)...), false},
 		"both":                            {kept(4, 2, lastAt-mostLog, 1, "snap", noops(2, mostLog)...), false},
 	} {
 		// A group in the log would be another one.
@@ -1511,6 +1511,48 @@ func TestTickAsksForVotes(t *testing.T) {
 	}
 }
 
+// The last index goes from three ahead of the last one to two behind it, at each role: up to it a server is right, and so is all that it sends; behind it, it is wrong, and does nothing.
+func TestTickAtTheLastIndex(t *testing.T) {
+	for count := range 4 {
+		for last := lastAt - 3; last <= lastAt+2; last++ {
+			k := kept(4, 1, last-count, 2, "snap", noops(3, count)...)
+			leader := withServer(leaderOf(1, k, last, last), func(s *impl.Server) { s.Elapsed, s.Next[2], s.Next[3] = 1, last, last-count })
+			alone := withGroup(k, groupOf([]int{1}))
+			for name, s := range map[string]impl.Server{
+				"a follower":  due(serverOf(2, k)),
+				"a candidate": due(candidateOf(3, k)),
+				"a leader":    leader,
+				"alone":       due(serverOf(1, alone)),
+				"joint":       due(serverOf(1, withGroup(k, groupOf([]int{1}, 1)))),
+				"restarted":   due(impl.Restart(2, k)),
+			} {
+				got, msgs := checkTick(t, s, 0)
+				if right := checkServer(t, s); right != (last <= lastAt) {
+					t.Errorf("%s, %d entries up to %d: %v", name, count, last, right)
+				}
+				if last > lastAt && (!sameServer(got, s) || len(msgs) != 0) || last <= lastAt && lastOf(got.K) > lastAt {
+					t.Errorf("%s, %d entries up to %d: %s, %s", name, count, last, serverText(got), msgsText(msgs))
+				}
+				if last <= lastAt && s.Id > 1 && (len(msgs) != 2 || msgs[0].Index != last) || last < lastAt && s.Id == 1 && got.Role != 2 {
+					t.Errorf("%s, %d entries up to %d: %s, %s", name, count, last, serverText(got), msgsText(msgs))
+				}
+			}
+		}
+	}
+}
+
+// A Leader of no term comes of no tick; where it is handed in it counts, and there is no message that it could send.
+func TestTickOfALeaderOfNoTerm(t *testing.T) {
+	s := leaderOf(1, kept(0, 0, 0, 0, ""), 0, 0)
+	for tick := 1; tick <= 5; tick++ {
+		got, msgs := checkTick(t, s, 0)
+		if got.Elapsed != tick%2 || got.Role != 2 || got.K.Term != 0 || len(msgs) != 0 {
+			t.Error(tick, serverText(got), msgsText(msgs))
+		}
+		s = got
+	}
+}
+
 func someRole(chance *rand.Rand, s impl.Server) impl.Server {
 	s.Role = chance.Intn(3)
 	s.Lead = chance.Intn(mostNodes + 1)
@@ -1548,6 +1590,7 @@ func someServer(chance *rand.Rand) impl.Server {
 		k.Base, k.BaseTerm, k.Snap = pickedOf(chance, 1, 5, 90, lastAt-3, lastAt), 1+chance.Intn(k.Term), []byte(longText(chance.Intn(40)))
 	}
 	k = withMore(chance, k, pickedOf(chance, 0, 3, 20, mostLog))
+	k.Log = k.Log[:min(len(k.Log), lastAt-k.Base)]
 	for i, e := range k.Log {
 		if e.Kind == 3 && chance.Intn(2) == 0 {
 			k.Log[i] = impl.Entry{Term: e.Term, Kind: 3, Data: groupBytesWanted(g)}
